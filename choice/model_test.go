@@ -1,0 +1,254 @@
+package choice_test
+
+import (
+	"math/rand"
+	"testing"
+
+	"choice/api"
+	"choice/choice"
+)
+
+// The model follows the document's words place by place, and shares nothing
+// with the program.
+
+// says: bit p of a table.
+func says(table uint64, p int) bool { return table>>p&1 == 1 }
+
+// tableOf: the table of what yes tells of each place.
+func tableOf(n int, yes func(p int) bool) uint64 {
+	var table uint64
+	for p := range 1 << n {
+		if yes(p) {
+			table |= 1 << p
+		}
+	}
+	return table
+}
+
+func applied(n, code int, a, b uint64) uint64 {
+	return tableOf(n, func(p int) bool {
+		x, y := 0, 0
+		if says(a, p) {
+			x = 1
+		}
+		if says(b, p) {
+			y = 1
+		}
+		return code>>(2*x+y)&1 == 1
+	})
+}
+
+func chosen(n int, a, b, c uint64) uint64 {
+	return tableOf(n, func(p int) bool {
+		if says(a, p) {
+			return says(b, p)
+		}
+		return says(c, p)
+	})
+}
+
+func supportOf(n int, table uint64) api.Set {
+	var set api.Set
+	for i := range n {
+		for p := range 1 << n {
+			if says(table, p) != says(table, p^1<<i) {
+				set |= 1 << i
+			}
+		}
+	}
+	return set
+}
+
+// nodesOf: the nodes of some functions together, by an order.
+func nodesOf(order []int, functions []uint64) int {
+	n := len(order)
+	everywhere := tableOf(n, func(int) bool { return true })
+	nodes := map[uint64]bool{}
+	for _, f := range functions {
+		for k := 0; k <= n; k++ {
+			for way := range 1 << k {
+				g := tableOf(n, func(p int) bool {
+					for level := range k {
+						p &^= 1 << order[level]
+						p |= (way >> level & 1) << order[level]
+					}
+					return says(f, p)
+				})
+				if g != 0 && g != everywhere {
+					nodes[g] = true
+				}
+			}
+		}
+	}
+	return len(nodes)
+}
+
+func natural(n int) []int {
+	return []int{0, 1, 2, 3, 4, 5}[:n]
+}
+
+// pair: a store beside what the document says of it.
+type pair struct {
+	t     *testing.T
+	s     *choice.Store
+	n     int
+	room  int
+	next  api.Handle
+	live  []api.Handle
+	table map[api.Handle]uint64
+}
+
+func newPair(t *testing.T, n, room int) *pair {
+	t.Helper()
+	return &pair{t: t, s: newStore(t, n, room), n: n, room: room, next: 1, table: map[api.Handle]uint64{}}
+}
+
+func newStore(t *testing.T, n, room int) *choice.Store {
+	t.Helper()
+	s, e := choice.New(n, room)
+	if s == nil || e != api.OK {
+		t.Fatalf("P3: New(%d, %d) = %v, %d", n, room, s, e)
+	}
+	return s
+}
+
+func (m *pair) functions() []uint64 {
+	var fs []uint64
+	for _, h := range m.live {
+		fs = append(fs, m.table[h])
+	}
+	return fs
+}
+
+// expects: the answer of a call that makes the function of a table and whose
+// numbers and handles are right.
+func (m *pair) expects(what string, table uint64, h api.Handle, e api.Errno) {
+	m.t.Helper()
+	want := api.OK
+	if len(m.live) == api.MaxLive {
+		want = api.ErrMany
+	} else if nodesOf(natural(m.n), append(m.functions(), table)) > m.room {
+		want = api.ErrRoom
+	}
+	if want != api.OK {
+		if h != 0 || e != want {
+			m.t.Fatalf("P4: %s = %d, %d, want 0, %d", what, h, e, want)
+		}
+		return
+	}
+	if h != m.next || e != api.OK {
+		m.t.Fatalf("P4: %s = %d, %d, want %d, 0", what, h, e, m.next)
+	}
+	m.next++
+	m.live = append(m.live, h)
+	m.table[h] = table
+}
+
+// release gives back the k-th of the live handles.
+func (m *pair) release(k int) {
+	m.t.Helper()
+	h := m.live[k]
+	if e := m.s.Release(h); e != api.OK {
+		m.t.Fatalf("P5: Release(%d) = %d", h, e)
+	}
+	m.live = append(m.live[:k:k], m.live[k+1:]...)
+	delete(m.table, h)
+}
+
+// agrees: all that the store can be asked is as the document says.
+func (m *pair) agrees() {
+	m.t.Helper()
+	for _, h := range m.live {
+		m.agreesOn(h)
+	}
+	if got, want := m.s.Used(), nodesOf(natural(m.n), m.functions()); got != want {
+		m.t.Fatalf("P7: Used = %d, want %d", got, want)
+	}
+}
+
+func (m *pair) agreesOn(h api.Handle) {
+	m.t.Helper()
+	f := m.table[h]
+	count, one := 0, -1
+	for p := range 1 << m.n {
+		v, e := m.s.Eval(h, api.Place(p))
+		if v != says(f, p) || e != api.OK {
+			m.t.Fatalf("P6: Eval(%d, %d) = %v, %d; its table is %d", h, p, v, e, f)
+		}
+		if says(f, p) {
+			count++
+			if one < 0 {
+				one = p
+			}
+		}
+	}
+	if u, e := m.s.Table(h); u != f || e != api.OK {
+		m.t.Fatalf("P6: Table(%d) = %d, %d, want %d", h, u, e, f)
+	}
+	if c, e := m.s.Count(h); c != count || e != api.OK {
+		m.t.Fatalf("P6: Count(%d) = %d, %d, want %d", h, c, e, count)
+	}
+	p, e := m.s.One(h)
+	if one < 0 && (p != 0 || e != api.ErrNone) || one >= 0 && (int(p) != one || e != api.OK) {
+		m.t.Fatalf("P6: One(%d) = %d, %d, want %d", h, p, e, one)
+	}
+	if set, e := m.s.Support(h); set != supportOf(m.n, f) || e != api.OK {
+		m.t.Fatalf("P6: Support(%d) = %d, %d, want %d", h, set, e, supportOf(m.n, f))
+	}
+	if size, e := m.s.Size(h); size != nodesOf(natural(m.n), []uint64{f}) || e != api.OK {
+		m.t.Fatalf("P7: Size(%d) = %d, %d, want %d", h, size, e, nodesOf(natural(m.n), []uint64{f}))
+	}
+	for _, other := range m.live {
+		if v, e := m.s.Same(h, other); v != (f == m.table[other]) || e != api.OK {
+			m.t.Fatalf("P6: Same(%d, %d) = %v, %d", h, other, v, e)
+		}
+	}
+}
+
+// drawn: a table, few or many of whose bits are 1, or with a pattern.
+func drawn(r *rand.Rand, n int) uint64 {
+	table := r.Uint64()
+	switch r.Intn(4) {
+	case 0:
+		table &= r.Uint64() & r.Uint64()
+	case 1:
+		table |= r.Uint64() | r.Uint64()
+	case 2:
+		table = (table & 0xff) * 0x0101010101010101
+	}
+	return table & (1<<(1<<n) - 1)
+}
+
+// step makes one drawn call that changes the store.
+func (m *pair) step(r *rand.Rand) {
+	m.t.Helper()
+	k := r.Intn(12)
+	if len(m.live) == 0 && k > 3 {
+		k = 0
+	}
+	some := func() api.Handle { return m.live[r.Intn(len(m.live))] }
+	switch {
+	case k <= 1:
+		f := drawn(r, m.n)
+		h, e := m.s.Make(f)
+		m.expects("Make", f, h, e)
+	case k == 2:
+		i := r.Intn(m.n)
+		h, e := m.s.Var(i)
+		m.expects("Var", tableOf(m.n, func(p int) bool { return p>>i&1 == 1 }), h, e)
+	case k == 3:
+		v := r.Intn(2) == 1
+		h, e := m.s.Const(v)
+		m.expects("Const", tableOf(m.n, func(int) bool { return v }), h, e)
+	case k <= 6:
+		m.release(r.Intn(len(m.live)))
+	case k <= 9:
+		code, a, b := r.Intn(16), some(), some()
+		h, e := m.s.Apply(code, a, b)
+		m.expects("Apply", applied(m.n, code, m.table[a], m.table[b]), h, e)
+	default:
+		a, b, c := some(), some(), some()
+		h, e := m.s.Ite(a, b, c)
+		m.expects("Ite", chosen(m.n, m.table[a], m.table[b], m.table[c]), h, e)
+	}
+}
