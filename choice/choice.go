@@ -225,16 +225,43 @@ func (s *Store) Used() int {
 }
 
 // Restrict fixes a variable (P8).
-func (s *Store) Restrict(a api.Handle, v int, to bool) (api.Handle, api.Errno) { return 0, api.OK }
+func (s *Store) Restrict(a api.Handle, v int, to bool) (api.Handle, api.Errno) {
+	if !s.hasVar(v) {
+		return 0, api.ErrArg
+	}
+	x, err := s.Table(a)
+	if err != api.OK {
+		return 0, err
+	}
+	return s.add(tables.Fix(x, v, to))
+}
 
 // Compose puts a function in a variable's place (P8).
 func (s *Store) Compose(a api.Handle, v int, b api.Handle) (api.Handle, api.Errno) {
-	return 0, api.OK
+	if !s.hasVar(v) {
+		return 0, api.ErrArg
+	}
+	x, errA := s.Table(a)
+	y, errB := s.Table(b)
+	if errA != api.OK || errB != api.OK {
+		return 0, api.ErrHandle
+	}
+	return s.add(tables.Put(x, v, y))
 }
 
 // Quantify asks for some, or all, values of variables (P8).
 func (s *Store) Quantify(a api.Handle, set api.Set, all bool) (api.Handle, api.Errno) {
-	return 0, api.OK
+	if int(set) >= 1<<uint(s.vars) {
+		return 0, api.ErrArg
+	}
+	x, err := s.Table(a)
+	if err != api.OK {
+		return 0, err
+	}
+	if all {
+		return s.add(tables.All(x, set))
+	}
+	return s.add(tables.Some(x, set))
 }
 
 // Order tells the order of the variables (P9).

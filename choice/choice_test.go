@@ -42,7 +42,7 @@ func fill(t *testing.T, s *choice.Store) {
 }
 
 // TestExamples: the examples of the document, as far as they name the calls of
-// P3 to P7.
+// P3 to P8.
 func TestExamples(t *testing.T) {
 	m := newPair(t, 3, api.MaxRoom)
 	h, e := m.s.Var(0)
@@ -69,10 +69,36 @@ func TestExamples(t *testing.T) {
 	if m.s.Used() != 6 {
 		t.Errorf("P7: Used = %d, want 6 still", m.s.Used())
 	}
+	examplesOfP8(t, m)
 	m.release(6)
 	noHandle(t, m.s, 7, 1)
 	h, e = m.s.Apply(16, 7, 1)
 	refused(t, "Apply(16, 7, 1)", api.ErrArg, h, e)
+}
+
+// examplesOfP8: the third of the examples, in the store of the first two.
+func examplesOfP8(t *testing.T, m *pair) {
+	t.Helper()
+	h, e := m.s.Restrict(5, 0, true)
+	m.expects("Restrict(5, 0, true)", 15, h, e)
+	if v, e := m.s.Eval(8, 0); !v || e != api.OK {
+		t.Errorf("P8: Eval(8, 0) = %v, %d", v, e)
+	}
+	if set, e := m.s.Support(8); set != 4 || e != api.OK {
+		t.Errorf("P8: Support(8) = %d, %d", set, e)
+	}
+	h, e = m.s.Compose(5, 0, 2)
+	m.expects("Compose(5, 0, 2)", 0, h, e)
+	h, e = m.s.Quantify(3, 1, false)
+	m.expects("Quantify(3, 1, false)", 240, h, e)
+	h, e = m.s.Quantify(4, 4, true)
+	m.expects("Quantify(4, 4, true)", 170, h, e)
+	for _, c := range [][2]api.Handle{{9, 6}, {10, 2}, {11, 1}} {
+		if v, e := m.s.Same(c[0], c[1]); !v || e != api.OK {
+			t.Errorf("P8: Same(%d, %d) = %v, %d", c[0], c[1], v, e)
+		}
+	}
+	m.agrees()
 }
 
 func TestExampleOfRoom(t *testing.T) {
@@ -153,6 +179,10 @@ func refusals(t *testing.T, m *pair, gone api.Handle) {
 	for _, i := range append([]int{m.n}, farNumbers...) {
 		h, e := s.Var(i)
 		refused(t, "Var of none", api.ErrArg, h, e)
+		noVariable(t, s, i, last, last)
+	}
+	for set := 1 << m.n; set < 256; set++ {
+		noSet(t, s, api.Set(set), last)
 	}
 	for _, code := range append([]int{16, 17, 31}, farNumbers...) {
 		h, e := s.Apply(code, last, last)
@@ -172,6 +202,26 @@ func refusals(t *testing.T, m *pair, gone api.Handle) {
 	}
 }
 
+// noVariable hands in a number that is no variable to the calls of P8.
+func noVariable(t *testing.T, s *choice.Store, v int, a, b api.Handle) {
+	t.Helper()
+	h, e := s.Restrict(a, v, false)
+	refused(t, "Restrict of no variable", api.ErrArg, h, e)
+	h, e = s.Restrict(a, v, true)
+	refused(t, "Restrict of no variable", api.ErrArg, h, e)
+	h, e = s.Compose(a, v, b)
+	refused(t, "Compose of no variable", api.ErrArg, h, e)
+}
+
+// noSet hands in a number that is no set of variables.
+func noSet(t *testing.T, s *choice.Store, set api.Set, a api.Handle) {
+	t.Helper()
+	h, e := s.Quantify(a, set, false)
+	refused(t, "Quantify by no set", api.ErrArg, h, e)
+	h, e = s.Quantify(a, set, true)
+	refused(t, "Quantify by no set", api.ErrArg, h, e)
+}
+
 // noHandle hands in a number that is no live handle, everywhere.
 func noHandle(t *testing.T, s *choice.Store, bad, good api.Handle) {
 	t.Helper()
@@ -185,6 +235,7 @@ func noHandle(t *testing.T, s *choice.Store, bad, good api.Handle) {
 	refused(t, "Ite of no handle", api.ErrHandle, h, e)
 	h, e = s.Ite(good, good, bad)
 	refused(t, "Ite of no handle", api.ErrHandle, h, e)
+	noHandleOfP8(t, s, bad, good)
 	if e := s.Release(bad); e != api.ErrHandle {
 		t.Errorf("P4: Release(%d) = %d", bad, e)
 	}
@@ -215,6 +266,25 @@ func noHandle(t *testing.T, s *choice.Store, bad, good api.Handle) {
 	if n, e := s.Size(bad); n != 0 || e != api.ErrHandle {
 		t.Errorf("P4: Size(%d) = %d, %d", bad, n, e)
 	}
+}
+
+// noHandleOfP8 hands in a number that is no live handle to the calls of P8.
+func noHandleOfP8(t *testing.T, s *choice.Store, bad, good api.Handle) {
+	t.Helper()
+	for _, flag := range []bool{false, true} {
+		h, e := s.Restrict(bad, 0, flag)
+		refused(t, "Restrict of no handle", api.ErrHandle, h, e)
+		h, e = s.Quantify(bad, 0, flag)
+		refused(t, "Quantify of no handle, by the empty set", api.ErrHandle, h, e)
+		h, e = s.Quantify(bad, 1, flag)
+		refused(t, "Quantify of no handle", api.ErrHandle, h, e)
+	}
+	h, e := s.Compose(bad, 0, good)
+	refused(t, "Compose of no handle", api.ErrHandle, h, e)
+	h, e = s.Compose(good, 0, bad)
+	refused(t, "Compose with no handle", api.ErrHandle, h, e)
+	h, e = s.Compose(bad, 0, bad)
+	refused(t, "Compose of no handle with none", api.ErrHandle, h, e)
 }
 
 func TestP1RefusalsChangeNothing(t *testing.T) {

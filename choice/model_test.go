@@ -1,6 +1,7 @@
 package choice_test
 
 import (
+	"fmt"
 	"math/rand"
 	"testing"
 
@@ -44,6 +45,35 @@ func chosen(n int, a, b, c uint64) uint64 {
 			return says(b, p)
 		}
 		return says(c, p)
+	})
+}
+
+func restricted(n int, a uint64, v int, to bool) uint64 {
+	return tableOf(n, func(p int) bool {
+		if to {
+			return says(a, p|1<<v)
+		}
+		return says(a, p&^(1<<v))
+	})
+}
+
+func composed(n int, a uint64, v int, b uint64) uint64 {
+	return tableOf(n, func(p int) bool {
+		if says(b, p) {
+			return says(a, p|1<<v)
+		}
+		return says(a, p&^(1<<v))
+	})
+}
+
+func quantified(n int, a uint64, set int, all bool) uint64 {
+	return tableOf(n, func(p int) bool {
+		for q := range 1 << n {
+			if (p^q)&^set == 0 && says(a, q) != all {
+				return !all
+			}
+		}
+		return all
 	})
 }
 
@@ -222,7 +252,7 @@ func drawn(r *rand.Rand, n int) uint64 {
 // step makes one drawn call that changes the store.
 func (m *pair) step(r *rand.Rand) {
 	m.t.Helper()
-	k := r.Intn(12)
+	k := r.Intn(18)
 	if len(m.live) == 0 && k > 3 {
 		k = 0
 	}
@@ -240,15 +270,49 @@ func (m *pair) step(r *rand.Rand) {
 		v := r.Intn(2) == 1
 		h, e := m.s.Const(v)
 		m.expects("Const", tableOf(m.n, func(int) bool { return v }), h, e)
-	case k <= 6:
+	case k <= 7:
 		m.release(r.Intn(len(m.live)))
-	case k <= 9:
+	case k <= 10:
 		code, a, b := r.Intn(16), some(), some()
 		h, e := m.s.Apply(code, a, b)
 		m.expects("Apply", applied(m.n, code, m.table[a], m.table[b]), h, e)
+	case k <= 13:
+		m.stepOfP8(r, some(), some())
 	default:
 		a, b, c := some(), some(), some()
 		h, e := m.s.Ite(a, b, c)
 		m.expects("Ite", chosen(m.n, m.table[a], m.table[b], m.table[c]), h, e)
 	}
+}
+
+// stepOfP8 makes one of the calls of P8 on these handles.
+func (m *pair) stepOfP8(r *rand.Rand, a, b api.Handle) {
+	m.t.Helper()
+	v, set, flag := r.Intn(m.n), r.Intn(1<<m.n), r.Intn(2) == 1
+	switch r.Intn(3) {
+	case 0:
+		m.restrict(a, v, flag)
+	case 1:
+		m.compose(a, v, b)
+	default:
+		m.quantify(a, set, flag)
+	}
+}
+
+func (m *pair) restrict(a api.Handle, v int, to bool) {
+	m.t.Helper()
+	h, e := m.s.Restrict(a, v, to)
+	m.expects(fmt.Sprintf("Restrict(%d, %d, %v)", a, v, to), restricted(m.n, m.table[a], v, to), h, e)
+}
+
+func (m *pair) compose(a api.Handle, v int, b api.Handle) {
+	m.t.Helper()
+	h, e := m.s.Compose(a, v, b)
+	m.expects(fmt.Sprintf("Compose(%d, %d, %d)", a, v, b), composed(m.n, m.table[a], v, m.table[b]), h, e)
+}
+
+func (m *pair) quantify(a api.Handle, set int, all bool) {
+	m.t.Helper()
+	h, e := m.s.Quantify(a, api.Set(set), all)
+	m.expects(fmt.Sprintf("Quantify(%d, %d, %v)", a, set, all), quantified(m.n, m.table[a], set, all), h, e)
 }

@@ -70,6 +70,40 @@ func Choose(a uint64, b uint64, c uint64) uint64 {
 	return a&b | c&^a
 }
 
+// Put is the table that t becomes if variable i is what b says at each place.
+func Put(t uint64, i int, b uint64) uint64 {
+	yes := Fix(t, i, true)
+	no := Fix(t, i, false)
+	return Choose(b, yes, no)
+}
+
+// All is the table of whether t says yes for all values of the variables of a
+// set. They can be taken one after the other: "for all of both" is "for all of
+// the one, it holds for all of the other".
+func All(t uint64, set api.Set) uint64 {
+	for i := 0; i < api.MaxVars; i++ {
+		if set>>uint(i)&1 == 1 {
+			yes := Fix(t, i, true)
+			no := Fix(t, i, false)
+			t = yes & no
+		}
+	}
+	return t
+}
+
+// Some is the table of whether t says yes for some values of the variables of
+// a set.
+func Some(t uint64, set api.Set) uint64 {
+	for i := 0; i < api.MaxVars; i++ {
+		if set>>uint(i)&1 == 1 {
+			yes := Fix(t, i, true)
+			no := Fix(t, i, false)
+			t = yes | no
+		}
+	}
+	return t
+}
+
 // Count tells at how many places a table says yes.
 func Count(t uint64) int {
 	count := 0

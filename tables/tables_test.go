@@ -5,6 +5,8 @@ import (
 	"math/bits"
 	"math/rand"
 	"testing"
+
+	"choice/api"
 )
 
 func TestFull(t *testing.T) {
@@ -73,6 +75,56 @@ func TestJoin(t *testing.T) {
 func TestChoose(t *testing.T) {
 	if got := Choose(0xf0, 0xcc, 0xaa); got != 0xca {
 		t.Errorf("Choose = %x, want ca", got)
+	}
+}
+
+func TestPut(t *testing.T) {
+	r := rand.New(rand.NewSource(3))
+	for range 100 {
+		vars := 1 + r.Intn(6)
+		table, b := r.Uint64()&Full(vars), r.Uint64()&Full(vars)
+		for i := range vars {
+			got := Put(table, i, b)
+			for p := range 64 {
+				want := uint64(0)
+				if p < 1<<vars {
+					want = table >> (p&^(1<<i) | int(b>>p&1)<<i) & 1
+				}
+				if got>>p&1 != want {
+					t.Fatalf("Put(%x, %d, %x) = %x: wrong at %d", table, i, b, got, p)
+				}
+			}
+		}
+	}
+	for _, i := range []int{math.MinInt, -1, 6, math.MaxInt} {
+		if got := Put(90, i, 204); got != 90 {
+			t.Errorf("Put(90, %d, 204) = %d", i, got)
+		}
+	}
+}
+
+func TestAllAndSome(t *testing.T) {
+	r := rand.New(rand.NewSource(4))
+	for vars := 1; vars <= 6; vars++ {
+		for set := range 1 << vars {
+			table := (r.Uint64() | r.Uint64()) & Full(vars)
+			if set&1 == 1 {
+				table = r.Uint64() & r.Uint64() & Full(vars)
+			}
+			all, some := All(table, api.Set(set)), Some(table, api.Set(set))
+			for p := range 64 {
+				wantAll, wantSome := p < 1<<vars, false
+				for q := range 1 << vars {
+					if (p^q)&^set == 0 {
+						wantAll = wantAll && table>>q&1 == 1
+						wantSome = wantSome || table>>q&1 == 1
+					}
+				}
+				if (all>>p&1 == 1) != wantAll || (some>>p&1 == 1) != wantSome {
+					t.Fatalf("of %x by %d: %x and %x: wrong at %d", table, set, all, some, p)
+				}
+			}
+		}
 	}
 }
 
