@@ -86,6 +86,13 @@ func (s *Store) add(table uint64) (api.Handle, api.Errno) {
 	return s.given, api.OK
 }
 
+// take puts other nodes in the place of the store's. The roots are where the
+// functions of the handles lie there.
+func (s *Store) take(nodes diagram.Diagram, roots []diagram.Link) {
+	s.nodes = nodes
+	copy(s.roots[:], roots)
+}
+
 // Const makes a function that is the same everywhere (P5).
 func (s *Store) Const(v bool) (api.Handle, api.Errno) {
 	if v {
@@ -143,8 +150,7 @@ func (s *Store) Release(a api.Handle) api.Errno {
 	s.handles[slot] = 0
 	s.roots[slot] = diagram.No
 	kept, roots := s.nodes.Keep(s.roots[:])
-	s.nodes = kept
-	copy(s.roots[:], roots)
+	s.take(kept, roots)
 	return api.OK
 }
 
@@ -270,10 +276,25 @@ func (s *Store) Order() []int {
 }
 
 // Swap changes two neighbours in the order (P9).
-func (s *Store) Swap(level int) api.Errno { return api.OK }
+func (s *Store) Swap(level int) api.Errno {
+	if level < 0 || level > s.vars-2 {
+		return api.ErrArg
+	}
+	nodes, roots := s.nodes.Move(level, level+1, s.roots[:])
+	if nodes.Nodes() > s.room {
+		return api.ErrRoom
+	}
+	s.take(nodes, roots)
+	return api.OK
+}
 
 // Sift looks for a better order (P10).
-func (s *Store) Sift() api.Errno { return api.OK }
+func (s *Store) Sift() api.Errno {
+	// There is room for what it finds, as that has no more nodes than now.
+	nodes, roots := s.nodes.Sift(s.roots[:])
+	s.take(nodes, roots)
+	return api.OK
+}
 
 // Export writes a function as a text (P11).
 func (s *Store) Export(a api.Handle) (string, api.Errno) { return "", api.OK }

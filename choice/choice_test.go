@@ -3,6 +3,7 @@ package choice_test
 import (
 	"math"
 	"math/rand"
+	"slices"
 	"testing"
 
 	"choice/api"
@@ -184,6 +185,9 @@ func refusals(t *testing.T, m *pair, gone api.Handle) {
 	for set := 1 << m.n; set < 256; set++ {
 		noSet(t, s, api.Set(set), last)
 	}
+	for _, level := range append([]int{m.n - 1, m.n}, farNumbers...) {
+		badLevel(m, level)
+	}
 	for _, code := range append([]int{16, 17, 31}, farNumbers...) {
 		h, e := s.Apply(code, last, last)
 		refused(t, "Apply by no code", api.ErrArg, h, e)
@@ -331,7 +335,7 @@ func TestP2SameCallsSameAnswers(t *testing.T) {
 		one.step(r1)
 		noise.step(r3)
 		two.step(r2)
-		if len(one.live) != len(two.live) || one.next != two.next || one.s.Used() != two.s.Used() {
+		if len(one.live) != len(two.live) || one.next != two.next || one.s.Used() != two.s.Used() || !slices.Equal(one.s.Order(), two.s.Order()) {
 			t.Fatalf("P2: two stores after the same calls: %d and %d live, %d and %d next, %d and %d used", len(one.live), len(two.live), one.next, two.next, one.s.Used(), two.s.Used())
 		}
 	}

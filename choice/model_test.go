@@ -3,6 +3,7 @@ package choice_test
 import (
 	"fmt"
 	"math/rand"
+	"slices"
 	"testing"
 
 	"choice/api"
@@ -94,21 +95,25 @@ func nodesOf(order []int, functions []uint64) int {
 	n := len(order)
 	everywhere := tableOf(n, func(int) bool { return true })
 	nodes := map[uint64]bool{}
+	// What the functions become if the variables of the first levels are
+	// fixed in every way: of no level, then of one more each time.
+	become := map[uint64]bool{}
 	for _, f := range functions {
-		for k := 0; k <= n; k++ {
-			for way := range 1 << k {
-				g := tableOf(n, func(p int) bool {
-					for level := range k {
-						p &^= 1 << order[level]
-						p |= (way >> level & 1) << order[level]
-					}
-					return says(f, p)
-				})
-				if g != 0 && g != everywhere {
-					nodes[g] = true
-				}
+		become[f] = true
+	}
+	for k := 0; k <= n; k++ {
+		next := map[uint64]bool{}
+		for g := range become {
+			if g == 0 || g == everywhere {
+				continue
+			}
+			nodes[g] = true
+			if k < n {
+				next[restricted(n, g, order[k], false)] = true
+				next[restricted(n, g, order[k], true)] = true
 			}
 		}
+		become = next
 	}
 	return len(nodes)
 }
@@ -117,12 +122,40 @@ func natural(n int) []int {
 	return []int{0, 1, 2, 3, 4, 5}[:n]
 }
 
+// moved: an order after the variable of one level went to another.
+func moved(order []int, from, to int) []int {
+	v := order[from]
+	others := slices.Delete(slices.Clone(order), from, from+1)
+	return slices.Insert(others, to, v)
+}
+
+// swapped: an order after two neighbours changed places.
+func swapped(order []int, level int) []int {
+	other := slices.Clone(order)
+	other[level], other[level+1] = order[level+1], order[level]
+	return other
+}
+
+// oneMoveBetters: whether moving one variable brings fewer nodes.
+func oneMoveBetters(order []int, functions []uint64) bool {
+	now := nodesOf(order, functions)
+	for from := range order {
+		for to := range order {
+			if nodesOf(moved(order, from, to), functions) < now {
+				return true
+			}
+		}
+	}
+	return false
+}
+
 // pair: a store beside what the document says of it.
 type pair struct {
 	t     *testing.T
 	s     *choice.Store
 	n     int
 	room  int
+	order []int
 	next  api.Handle
 	live  []api.Handle
 	table map[api.Handle]uint64
@@ -130,7 +163,7 @@ type pair struct {
 
 func newPair(t *testing.T, n, room int) *pair {
 	t.Helper()
-	return &pair{t: t, s: newStore(t, n, room), n: n, room: room, next: 1, table: map[api.Handle]uint64{}}
+	return &pair{t: t, s: newStore(t, n, room), n: n, room: room, order: natural(n), next: 1, table: map[api.Handle]uint64{}}
 }
 
 func newStore(t *testing.T, n, room int) *choice.Store {
@@ -157,7 +190,7 @@ func (m *pair) expects(what string, table uint64, h api.Handle, e api.Errno) {
 	want := api.OK
 	if len(m.live) == api.MaxLive {
 		want = api.ErrMany
-	} else if nodesOf(natural(m.n), append(m.functions(), table)) > m.room {
+	} else if nodesOf(m.order, append(m.functions(), table)) > m.room {
 		want = api.ErrRoom
 	}
 	if want != api.OK {
@@ -191,8 +224,11 @@ func (m *pair) agrees() {
 	for _, h := range m.live {
 		m.agreesOn(h)
 	}
-	if got, want := m.s.Used(), nodesOf(natural(m.n), m.functions()); got != want {
-		m.t.Fatalf("P7: Used = %d, want %d", got, want)
+	if got, want := m.s.Used(), nodesOf(m.order, m.functions()); got != want {
+		m.t.Fatalf("P7: Used = %d, want %d by the order %v", got, want, m.order)
+	}
+	if got := m.s.Order(); !slices.Equal(got, m.order) {
+		m.t.Fatalf("P9: Order = %v, want %v", got, m.order)
 	}
 }
 
@@ -225,8 +261,9 @@ func (m *pair) agreesOn(h api.Handle) {
 	if set, e := m.s.Support(h); set != supportOf(m.n, f) || e != api.OK {
 		m.t.Fatalf("P6: Support(%d) = %d, %d, want %d", h, set, e, supportOf(m.n, f))
 	}
-	if size, e := m.s.Size(h); size != nodesOf(natural(m.n), []uint64{f}) || e != api.OK {
-		m.t.Fatalf("P7: Size(%d) = %d, %d, want %d", h, size, e, nodesOf(natural(m.n), []uint64{f}))
+	want := nodesOf(m.order, []uint64{f})
+	if size, e := m.s.Size(h); size != want || e != api.OK {
+		m.t.Fatalf("P7: Size(%d) = %d, %d, want %d by the order %v", h, size, e, want, m.order)
 	}
 	for _, other := range m.live {
 		if v, e := m.s.Same(h, other); v != (f == m.table[other]) || e != api.OK {
@@ -252,8 +289,8 @@ func drawn(r *rand.Rand, n int) uint64 {
 // step makes one drawn call that changes the store.
 func (m *pair) step(r *rand.Rand) {
 	m.t.Helper()
-	k := r.Intn(18)
-	if len(m.live) == 0 && k > 3 {
+	k := r.Intn(22)
+	if len(m.live) == 0 && k > 3 && k < 18 {
 		k = 0
 	}
 	some := func() api.Handle { return m.live[r.Intn(len(m.live))] }
@@ -278,10 +315,60 @@ func (m *pair) step(r *rand.Rand) {
 		m.expects("Apply", applied(m.n, code, m.table[a], m.table[b]), h, e)
 	case k <= 13:
 		m.stepOfP8(r, some(), some())
-	default:
+	case k <= 17:
 		a, b, c := some(), some(), some()
 		h, e := m.s.Ite(a, b, c)
 		m.expects("Ite", chosen(m.n, m.table[a], m.table[b], m.table[c]), h, e)
+	case k <= 20:
+		m.swap(r.Intn(m.n+1) - 1)
+	default:
+		m.sift()
+	}
+}
+
+// swap changes two neighbours in the order, if that can be, and tells what the
+// answer had to be.
+func (m *pair) swap(level int) api.Errno {
+	m.t.Helper()
+	want := api.OK
+	if level < 0 || level > m.n-2 {
+		want = api.ErrArg
+	} else if nodesOf(swapped(m.order, level), m.functions()) > m.room {
+		want = api.ErrRoom
+	}
+	if e := m.s.Swap(level); e != want {
+		m.t.Fatalf("P9: Swap(%d) = %d, want %d; the order %v", level, e, want, m.order)
+	}
+	if want == api.OK {
+		m.order = swapped(m.order, level)
+	}
+	if got := m.s.Order(); !slices.Equal(got, m.order) {
+		m.t.Fatalf("P9: Order = %v after Swap(%d) = %d, want %v", got, level, want, m.order)
+	}
+	return want
+}
+
+// sift takes over the order that the store finds, if it is a right one.
+func (m *pair) sift() {
+	m.t.Helper()
+	before := nodesOf(m.order, m.functions())
+	if e := m.s.Sift(); e != api.OK {
+		m.t.Fatalf("P10: Sift = %d", e)
+	}
+	found := m.s.Order()
+	if sorted := slices.Sorted(slices.Values(found)); !slices.Equal(sorted, natural(m.n)) {
+		m.t.Fatalf("P10: Sift found %v, which is no order of %d variables", found, m.n)
+	}
+	after := nodesOf(found, m.functions())
+	if after > before {
+		m.t.Fatalf("P10: Sift from %v, %d nodes, to %v, %d nodes", m.order, before, found, after)
+	}
+	if after == before && oneMoveBetters(m.order, m.functions()) {
+		m.t.Fatalf("P10: Sift went from %v to %v and left %d nodes, though one move betters that", m.order, found, after)
+	}
+	m.order = found
+	if m.s.Used() != after {
+		m.t.Fatalf("P10: Used = %d after Sift, want %d by the order %v", m.s.Used(), after, found)
 	}
 }
 
