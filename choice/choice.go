@@ -5,6 +5,7 @@ import (
 	"choice/api"
 	"choice/diagram"
 	"choice/tables"
+	"choice/texts"
 )
 
 // lastHandle is the greatest number that a handle can have.
@@ -38,8 +39,14 @@ func (s *Store) slot(a api.Handle) int {
 	return -1
 }
 
-// freeSlot finds where a new handle can lie, -1 if there are MaxLive already.
+// freeSlot finds where a new handle can lie, -1 if there are MaxLive already or
+// there can be none.
 func (s *Store) freeSlot() int {
+	// A handle's number must not come twice, so when all were given there
+	// is none to answer.
+	if s.given == lastHandle {
+		return -1
+	}
 	for i, h := range s.handles {
 		if h == 0 {
 			return i
@@ -70,9 +77,7 @@ func (s *Store) hasVar(i int) bool {
 // add gives a new handle to the function of a table.
 func (s *Store) add(table uint64) (api.Handle, api.Errno) {
 	slot := s.freeSlot()
-	// A handle's number must not come twice, so when all were given there
-	// is none to answer.
-	if slot < 0 || s.given == lastHandle {
+	if slot < 0 {
 		return 0, api.ErrMany
 	}
 	grown, root := s.nodes.With(table)
@@ -297,7 +302,24 @@ func (s *Store) Sift() api.Errno {
 }
 
 // Export writes a function as a text (P11).
-func (s *Store) Export(a api.Handle) (string, api.Errno) { return "", api.OK }
+func (s *Store) Export(a api.Handle) (string, api.Errno) {
+	table, err := s.Table(a)
+	if err != api.OK {
+		return "", err
+	}
+	return texts.Write(table, s.vars), api.OK
+}
 
 // Import reads one (P12).
-func (s *Store) Import(t string) (api.Handle, api.Errno) { return 0, api.OK }
+func (s *Store) Import(t string) (api.Handle, api.Errno) {
+	table, said := texts.Read(t, s.vars)
+	if said {
+		return s.add(table)
+	}
+	// What says no function needs no room, but a store that has no handle
+	// to give refuses it for that first.
+	if s.freeSlot() < 0 {
+		return 0, api.ErrMany
+	}
+	return 0, api.ErrText
+}

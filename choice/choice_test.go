@@ -1,6 +1,7 @@
 package choice_test
 
 import (
+	"fmt"
 	"math"
 	"math/rand"
 	"slices"
@@ -42,8 +43,7 @@ func fill(t *testing.T, s *choice.Store) {
 	}
 }
 
-// TestExamples: the examples of the document, as far as they name the calls of
-// P3 to P8.
+// TestExamples: the examples of the document, but for the one of room.
 func TestExamples(t *testing.T) {
 	m := newPair(t, 3, api.MaxRoom)
 	h, e := m.s.Var(0)
@@ -75,6 +75,7 @@ func TestExamples(t *testing.T) {
 	noHandle(t, m.s, 7, 1)
 	h, e = m.s.Apply(16, 7, 1)
 	refused(t, "Apply(16, 7, 1)", api.ErrArg, h, e)
+	examplesOfTexts(t, m)
 }
 
 // examplesOfP8: the third of the examples, in the store of the first two.
@@ -145,6 +146,10 @@ func TestP1LeastError(t *testing.T) {
 	refused(t, "Apply, all live, no room", api.ErrMany, h, e)
 	h, e = s.Ite(1, 2, 1)
 	refused(t, "Ite, all live", api.ErrMany, h, e)
+	h, e = s.Import("1n,y;0n,0;")
+	refused(t, "Import, all live, no room", api.ErrMany, h, e)
+	h, e = s.Import("?")
+	refused(t, "Import of no text, all live", api.ErrMany, h, e)
 	h, e = s.Var(2)
 	refused(t, "Var of none, all live", api.ErrArg, h, e)
 	h, e = s.Make(16)
@@ -187,6 +192,10 @@ func refusals(t *testing.T, m *pair, gone api.Handle) {
 	}
 	for _, level := range append([]int{m.n - 1, m.n}, farNumbers...) {
 		badLevel(m, level)
+	}
+	for _, text := range []string{"", "2", "0n,y", "0n,0;", fmt.Sprintf("%dn,y;", m.n)} {
+		h, e := s.Import(text)
+		refused(t, "Import of no text", api.ErrText, h, e)
 	}
 	for _, code := range append([]int{16, 17, 31}, farNumbers...) {
 		h, e := s.Apply(code, last, last)
@@ -269,6 +278,9 @@ func noHandle(t *testing.T, s *choice.Store, bad, good api.Handle) {
 	}
 	if n, e := s.Size(bad); n != 0 || e != api.ErrHandle {
 		t.Errorf("P4: Size(%d) = %d, %d", bad, n, e)
+	}
+	if text, e := s.Export(bad); text != "" || e != api.ErrHandle {
+		t.Errorf("P4: Export(%d) = %q, %d", bad, text, e)
 	}
 }
 

@@ -18,6 +18,11 @@ func TestP4LastHandle(t *testing.T) {
 		if h, e := s.Const(true); h != 0 || e != api.ErrMany {
 			t.Errorf("P4: Const(true) after the last handle = %d, %d", h, e)
 		}
+		for _, text := range []string{"1", "?"} {
+			if h, e := s.Import(text); h != 0 || e != api.ErrMany {
+				t.Errorf("P4: Import(%q) after the last handle = %d, %d", text, h, e)
+			}
+		}
 	}
 	if u, e := s.Table(1); u != 10 || e != api.OK {
 		t.Errorf("P6: Table(1) = %d, %d", u, e)

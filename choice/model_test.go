@@ -265,6 +265,7 @@ func (m *pair) agreesOn(h api.Handle) {
 	if size, e := m.s.Size(h); size != want || e != api.OK {
 		m.t.Fatalf("P7: Size(%d) = %d, %d, want %d by the order %v", h, size, e, want, m.order)
 	}
+	m.write(h)
 	for _, other := range m.live {
 		if v, e := m.s.Same(h, other); v != (f == m.table[other]) || e != api.OK {
 			m.t.Fatalf("P6: Same(%d, %d) = %v, %d", h, other, v, e)
@@ -289,7 +290,7 @@ func drawn(r *rand.Rand, n int) uint64 {
 // step makes one drawn call that changes the store.
 func (m *pair) step(r *rand.Rand) {
 	m.t.Helper()
-	k := r.Intn(22)
+	k := r.Intn(24)
 	if len(m.live) == 0 && k > 3 && k < 18 {
 		k = 0
 	}
@@ -321,9 +322,21 @@ func (m *pair) step(r *rand.Rand) {
 		m.expects("Ite", chosen(m.n, m.table[a], m.table[b], m.table[c]), h, e)
 	case k <= 20:
 		m.swap(r.Intn(m.n+1) - 1)
-	default:
+	case k == 21:
 		m.sift()
+	default:
+		m.stepOfTexts(r)
 	}
+}
+
+// stepOfTexts reads a text, which may say no function.
+func (m *pair) stepOfTexts(r *rand.Rand) {
+	m.t.Helper()
+	text := drawnText(r, m.n, 1+r.Intn(20))
+	if r.Intn(3) == 0 {
+		text = spoiled(r, text)
+	}
+	m.read(text)
 }
 
 // swap changes two neighbours in the order, if that can be, and tells what the

@@ -24,6 +24,12 @@ type Node struct {
 	Yes      Link
 }
 
+// Number tells which node of List a link leads to, a number below 0 if it is an
+// answer.
+func (l Link) Number() int {
+	return int(l) - first
+}
+
 // Diagram has nodes of which no two are alike and none has two equal links:
 // so equal functions have equal links. A node's links lead to earlier nodes
 // alone: so every walk along them ends.
@@ -55,8 +61,14 @@ func (d *Diagram) Nodes() int {
 	return len(d.nodes)
 }
 
+// List lists the nodes, each behind those to which its links lead.
+func (d *Diagram) List() []Node {
+	return append([]Node{}, d.nodes...)
+}
+
 // With answers the diagram that also has the nodes of the function of a table,
-// and the link to that function.
+// and the link to that function. The nodes that were not there yet come last:
+// for each node those of its first link, then those of its second, then itself.
 func (d *Diagram) With(table uint64) (Diagram, Link) {
 	grown := Diagram{order: d.order, nodes: append([]Node{}, d.nodes...)}
 	link := grown.build(0, table)

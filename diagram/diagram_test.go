@@ -82,6 +82,28 @@ func TestWithTellsItsTable(t *testing.T) {
 	}
 }
 
+func TestList(t *testing.T) {
+	// Just one of 0 and 2, beside variable 1: its first link's node, its
+	// second link's, itself.
+	d := New(3)
+	d, _ = d.With(204)
+	d, l := d.With(90)
+	want := []Node{{1, No, Yes}, {2, No, Yes}, {2, Yes, No}, {0, first + 1, first + 2}}
+	list := d.List()
+	if !slices.Equal(list, want) || l.Number() != 3 {
+		t.Errorf("List = %v, want %v; the number %d", list, want, l.Number())
+	}
+	if No.Number() >= 0 || Yes.Number() >= 0 || want[3].Yes.Number() != 2 {
+		t.Errorf("the numbers %d, %d, %d", No.Number(), Yes.Number(), want[3].Yes.Number())
+	}
+	for i := range list[:cap(list)] {
+		list[:cap(list)][i] = Node{}
+	}
+	if again := d.List(); !slices.Equal(again, want) {
+		t.Errorf("the nodes were changed from outside: %v", again)
+	}
+}
+
 func TestSizeGoesByTheOrder(t *testing.T) {
 	pairs := tables.Variable(0, 6)&tables.Variable(1, 6) | tables.Variable(2, 6)&tables.Variable(3, 6) | tables.Variable(4, 6)&tables.Variable(5, 6)
 	for _, c := range []struct {
